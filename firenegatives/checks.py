@@ -1,6 +1,6 @@
 """Checks of arguments that several files of the package share."""
 
-from firenegatives.errors import InvalidLimit, InvalidNode, InvalidPosition
+from firenegatives.errors import InvalidForm, InvalidLimit, InvalidNode, InvalidPosition
 
 MOST_FIRINGS = 10000
 
@@ -40,6 +40,12 @@ def check_position(size, position):
     """Reject what is not a position of a graph of that size."""
     if not is_integer_list(position, size):
         raise InvalidPosition(position)
+
+
+def check_form(size, form):
+    """Reject what is not a form of a graph of that size."""
+    if not is_integer_list(form, size):
+        raise InvalidForm(form)
 
 
 def check_limit(limit):

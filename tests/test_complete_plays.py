@@ -5,9 +5,8 @@ import unittest
 
 from firenegatives.firing import fire, flip, has_ended, is_complete, negatives, play, run, totals_of
 from firenegatives.graphs import Graph
-from tests.samples import GREAT, cycle, path, star
+from tests.samples import GREAT, KITE, cycle, path, star
 
-KITE = Graph(4, [(0, 1), (0, 2), (1, 2), (2, 3)])
 LEGS_2_2_1 = Graph(6, [(0, 1), (1, 2), (0, 3), (3, 4), (0, 5)])
 PARTS = Graph(6, [(0, 4), (4, 2), (1, 5)])
 

@@ -9,32 +9,10 @@ from firenegatives.firing import (
     fire, flip, has_ended, is_complete, is_play, is_position, negatives, play, run, totals_of,
 )
 from firenegatives.graphs import Graph
-from tests.samples import GREAT, NOT_INTEGERS, cycle, path, raised, star
+from tests.samples import GREAT, NOT_INTEGERS, cycle, no_node_lists, no_nodes, no_positions, path, raised, star
 
 PATH = path(3)
 PAIR = path(2)
-
-
-def no_positions(size):
-    """Return values that are no position of a graph of that size."""
-    right = [-1] * size
-    wrong = [right[1:], right + [0], tuple(right), None, -1, True, "-1", {}, {node: -1 for node in range(size)},
-             {-1}, object(), range(size), iter(right), [right] * size]
-    for entry in NOT_INTEGERS:
-        wrong.append(right[1:] + [entry])
-        wrong.append([entry] + right[1:])
-    return wrong
-
-
-def no_nodes(size):
-    """Return values that are no node of a graph of that size."""
-    return [-1, -2, size, size + 1, GREAT, -GREAT] + NOT_INTEGERS
-
-
-def no_node_lists(size):
-    """Return values that are no list of nodes of a graph of that size."""
-    wrong = [(), (0,), None, 0, True, "", "0", {}, {0: 1}, {0}, object(), range(1), iter([0]), [[0]], [(0,)]]
-    return wrong + [[entry] for entry in no_nodes(size)] + [[0, entry] for entry in no_nodes(size)]
 
 
 class TestExamples(unittest.TestCase):
