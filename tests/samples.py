@@ -136,6 +136,12 @@ def balanced_graphs():
                (legs(1, 2, 5), [6, 3, 4, 2, 5, 4, 3, 2, 1])])
 
 
+def part_of(graph, component):
+    """Return the subgraph on some nodes, which are numbered from 0 in their order."""
+    return Graph(len(component), [(component.index(one), component.index(two)) for one, two in graph.edges()
+                                  if one in component and two in component])
+
+
 KITE = Graph(4, [(0, 1), (0, 2), (1, 2), (2, 3)])
 GRID = Graph(16, [(node, node + 1) for node in range(16) if node % 4 < 3] + [(node, node + 4) for node in range(12)])
 

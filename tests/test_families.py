@@ -351,6 +351,22 @@ class TestIsCertificate(unittest.TestCase):
             for word in ("finite", "balanced", "wild", "Finite", "", "finit", None, b"finite", 0, True, ["finite"]):
                 self.assertIs(is_certificate(graph, (word,) + certificate[1:]), word == certificate[0], (graph, word))
 
+    def test_a_word_that_equals_everything(self):
+        class Same:
+            def __eq__(self, other):
+                return True
+
+        for graph in (path(3), TRIANGLE, KITE):
+            self.assertIs(is_certificate(graph, (Same(),) + classify(graph)[1:]), False)
+
+    def test_other_graphs_have_no_balanced_certificates(self):
+        for graph, weights in [(KITE, [1, 1, 1, 0]), (KITE, [3, 3, 4, 2]), (path(3), [1, 1, 1]), (path(3), [1, 2, 1]),
+                               (star(6), [2, 1, 1, 1, 1, 0]), (star(6), [5, 2, 2, 2, 2, 2]), (GRID, [1] * 16)]:
+            units = [[int(other == node) for other in range(graph.size())] for node in range(graph.size())]
+            missing = [[weight - entry for weight, entry in zip(weights, unit)] for unit in units]
+            for forms in ([], units, units[:1], units + missing, closed_list(graph)):
+                self.assertIs(is_certificate(graph, ("balanced", weights, forms)), False)
+
     def test_finite_and_balanced_graphs_have_no_wild_certificates(self):
         for graph, weights in balanced_graphs():
             for times in (1, 2, GREAT):

@@ -176,6 +176,9 @@ class TestIsClosedList(unittest.TestCase):
             for more in ([0] * size, [1] + [0] * (size - 2) + [1], [2] * size, [GREAT] * size, [-1] + [0] * (size - 1)):
                 self.assertIs(is_closed_list(graph, found + [more]), False)
             self.assertIs(is_closed_list(graph, found + [[-entry for entry in form] for form in found]), False)
+        self.assertIs(is_closed_list(path(1), [[1]]), True)
+        self.assertIs(is_closed_list(path(1), [[1], [-1]]), False)
+        self.assertIs(is_closed_list(Graph(2), [[1, 0], [0, 1], [3, -3], [-3, 3], [3, 3], [-3, -3]]), False)
 
     def test_an_entry_changed(self):
         for graph in (path(3), legs(1, 1, 1), SEVERAL[0]):
