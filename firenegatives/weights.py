@@ -43,8 +43,8 @@ def is_balanced_on(graph, form, component):
 def find_weights(graph):
     """Return weights of the graph, or None if every component is finite.
 
-    On a connected graph they are positive exactly on the nodes of a balanced graph or of all cycles and what joins
-    them. So on a balanced graph they are its smallest balanced weights.
+    They are 1 on all cycles and what joins them; without cycles they are those of a balanced graph inside of it, or 1
+    at all other neighbours of two nodes instead of four. On a balanced graph they are its smallest balanced weights.
     """
     near = all_neighbours(graph)
     core = core_of(near)
