@@ -63,15 +63,8 @@ def run(graph, position, limit):
     """
     check_position(graph.size(), position)
     check_limit(limit)
-    near = all_neighbours(graph)
     numbers = list(position)
-    fired = []
-    while len(fired) < limit:
-        node = first_negative(numbers)
-        if node is None:
-            break
-        flip_in_place(numbers, node, near[node])
-        fired.append(node)
+    fired = run_in_place(all_neighbours(graph), numbers, limit)
     return numbers, fired
 
 
@@ -92,6 +85,21 @@ def flip_in_place(numbers, node, near):
     for other in near:
         numbers[other] += number
     numbers[node] = -number
+
+
+def run_in_place(near, numbers, limit):
+    """Fire the smallest negative node again and again in a list of numbers that the caller owns.
+
+    Return the list of the fired nodes; near holds the neighbours of each node.
+    """
+    fired = []
+    while len(fired) < limit:
+        node = first_negative(numbers)
+        if node is None:
+            break
+        flip_in_place(numbers, node, near[node])
+        fired.append(node)
+    return fired
 
 
 def first_negative(numbers):

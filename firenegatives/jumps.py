@@ -2,9 +2,9 @@
 
 from firenegatives.checks import MOST_FIRINGS, check_position, is_integer_list
 from firenegatives.errors import InvalidJump
-from firenegatives.firing import all_neighbours, follow, has_ended, is_position, run
-from firenegatives.parts import balanced_weights, check_decided, decided_parts, picked, put_back, scaled_shares
-from firenegatives.parts import some_never_ends
+from firenegatives.firing import all_neighbours, follow, has_ended, is_position, run_in_place
+from firenegatives.parts import alone, balanced_weights, check_decided, decided_parts, picked, put_back
+from firenegatives.parts import scaled_shares, some_never_ends
 from firenegatives.weights import excess, worth
 
 
@@ -43,10 +43,13 @@ def settle(graph, position):
     if some_never_ends(parts, position):
         return None
     jump = [0] * graph.size()
+    nodes = []
+    reached = [0] * graph.size()
     for component, certificate in parts:
-        put_back(jump, component, near_jump(certificate, picked(position, component)))
-    # No play is as long as this limit after such jumps: see near_jump.
-    reached, nodes = run(graph, jumped(graph, position, jump), MOST_FIRINGS)
+        found = settled_part(alone(graph, component), certificate, picked(position, component))
+        put_back(jump, component, found[0])
+        nodes.extend([component[place] for place in found[1]])
+        put_back(reached, component, found[2])
     return jump, nodes, reached
 
 
@@ -65,6 +68,19 @@ def is_settled(graph, position, thing):
         return False
     followed = follow(graph, jumped(graph, position, jump), nodes)
     return followed is not None and has_ended(graph, followed[0]) and followed[0] == end
+
+
+def settled_part(part, certificate, numbers):
+    """Return what settle returns for a finite or balanced component alone on which plays end."""
+    near = all_neighbours(part)
+    jump = near_jump(certificate, numbers)
+    reached = list(numbers)
+    if certificate[0] == "balanced":
+        times = worth(certificate[1], numbers)
+        reached = [number - times * excess(near, jump, node) for node, number in enumerate(numbers)]
+    # No play is as long as this limit after such jumps: see near_jump.
+    nodes = run_in_place(near, reached, MOST_FIRINGS)
+    return jump, nodes, reached
 
 
 def near_jump(certificate, numbers):

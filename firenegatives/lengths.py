@@ -1,8 +1,8 @@
 """Lengths of complete plays, and the sums that they fire, without playing."""
 
 from firenegatives.checks import check_position
-from firenegatives.jumps import settle
-from firenegatives.parts import decided_parts, picked, put_back, scaled_shares, some_never_ends
+from firenegatives.jumps import settled_part
+from firenegatives.parts import alone, decided_parts, picked, put_back, scaled_shares, some_never_ends
 from firenegatives.weights import worth
 
 
@@ -25,10 +25,11 @@ def totals(graph, position):
     parts = decided_parts(graph)
     if some_never_ends(parts, position):
         return None
-    end = settle(graph, position)[2]
     found = [0] * graph.size()
     for component, certificate in parts:
-        put_back(found, component, part_totals(certificate, picked(position, component), picked(end, component)))
+        start = picked(position, component)
+        end = settled_part(alone(graph, component), certificate, start)[2]
+        put_back(found, component, part_totals(certificate, start, end))
     return found
 
 

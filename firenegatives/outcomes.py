@@ -3,7 +3,7 @@
 from firenegatives.checks import check_limit, check_position
 from firenegatives.families import classify
 from firenegatives.firing import follow, has_ended, run
-from firenegatives.jumps import settle
+from firenegatives.jumps import settled_part
 from firenegatives.lengths import firings
 from firenegatives.parts import alone, never_ends, picked, put_back, spread
 from firenegatives.weights import is_balanced_on, is_weights, worth
@@ -71,7 +71,7 @@ def tame_outcome(part, certificate, numbers):
     """Return the outcome on a finite or balanced component alone."""
     if never_ends(certificate, numbers):
         return "never", [], certificate[1]
-    return "ends", firings(certificate, numbers)[0], settle(part, numbers)[2]
+    return "ends", firings(certificate, numbers)[0], settled_part(part, certificate, numbers)[2]
 
 
 def wild_outcome(part, weights, numbers, limit):

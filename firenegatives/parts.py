@@ -1,4 +1,4 @@
-"""The components of a graph, each taken as a graph of its own."""
+"""The components of a graph, and other parts of it, each taken as a graph of its own."""
 
 from firenegatives.errors import Undecided
 from firenegatives.families import classify, kind
@@ -6,11 +6,11 @@ from firenegatives.graphs import Graph
 from firenegatives.weights import find_weights, worth
 
 
-def alone(graph, component):
-    """Return a component as a graph whose nodes are numbered from 0 in the same order."""
-    places = {node: place for place, node in enumerate(component)}
-    edges = [(places[one], places[two]) for one, two in graph.edges() if one in places]
-    return Graph(len(component), edges)
+def alone(graph, nodes):
+    """Return the subgraph on some nodes, which are numbered from 0 in the same order."""
+    places = {node: place for place, node in enumerate(nodes)}
+    edges = [(places[one], places[two]) for one, two in graph.edges() if one in places and two in places]
+    return Graph(len(nodes), edges)
 
 
 def picked(numbers, component):
@@ -50,8 +50,13 @@ def check_decided(graph):
 
 def decided_parts(graph):
     """Return the components with what classify returns for each alone; reject a graph with a wild one."""
-    check_decided(graph)
-    return [(component, classify(alone(graph, component))) for component in graph.components()]
+    found = []
+    for component in graph.components():
+        certificate = classify(alone(graph, component))
+        if certificate[0] == "wild":
+            raise Undecided(component)
+        found.append((component, certificate))
+    return found
 
 
 def never_ends(certificate, numbers):
