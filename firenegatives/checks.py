@@ -1,6 +1,6 @@
 """Checks of arguments that several files of the package share."""
 
-from firenegatives.errors import InvalidForm, InvalidLimit, InvalidNode, InvalidPosition
+from firenegatives.errors import InvalidForm, InvalidLimit, InvalidNode, InvalidNumber, InvalidPosition, NoPlayer
 
 MOST_FIRINGS = 10000
 
@@ -52,3 +52,15 @@ def check_limit(limit):
     """Reject what is not a number of firings that a caller may allow."""
     if not is_integer_within(limit, 0, MOST_FIRINGS):
         raise InvalidLimit(limit)
+
+
+def check_number(number):
+    """Reject what is no number for a node."""
+    if not is_integer(number):
+        raise InvalidNumber(number)
+
+
+def check_player(count, player):
+    """Reject what is none of so many players."""
+    if not is_integer_within(player, 0, count - 1):
+        raise NoPlayer(player)
