@@ -3,7 +3,7 @@
 from firenegatives.checks import check_node, check_number, check_player
 from firenegatives.errors import InvalidEdge, InvalidOperation, NotNegative, TooMany
 from firenegatives.firing import flip_in_place
-from firenegatives.graphs import Graph, MOST_EDGES, MOST_NODES
+from firenegatives.graphs import Graph, MOST_NODES
 
 # How many arguments each operation takes that may be performed together with others.
 ARGUMENTS = {"fire": 2, "put": 2, "add_node": 1, "add_edge": 2, "remove_edge": 2}
@@ -91,8 +91,7 @@ def join_nodes(state, one, two):
     edges = state.drawn.edges()
     if one == two or edge in edges:
         raise InvalidEdge((one, two))
-    if len(edges) == MOST_EDGES:
-        raise TooMany(len(edges) + 1)
+    # A graph rejects one edge too many by itself.
     state.drawn = Graph(state.drawn.size(), edges + [edge])
     return None, ("remove_edge", one, two)
 
